@@ -1,0 +1,1 @@
+"""Rowsteps: what powers of row steps make."""
