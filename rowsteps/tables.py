@@ -101,6 +101,7 @@ def bordered(table):
 
 def step(n, i, j, k):
     """Return the step (i, j) k times: as a first factor it adds k times the row j to the row i."""
+    # A wrong n is refused by identity, so this comes ahead of the places.
     rows = [list(row) for row in identity(n)]
     check_places(n, i, j)
     rows[i][j] = k
