@@ -16,12 +16,17 @@ def is_row(value, n):
     return isinstance(value, tuple) and len(value) == n and all([is_number(item) for item in value])
 
 
-def is_table(value):
-    """Return whether a value of any kind is a table."""
+def has_shape(value):
+    """Return whether a value of any kind is a tuple of n tuples of n integers, n being 2 or 3."""
     if not isinstance(value, tuple) or len(value) not in (2, 3):
         return False
     n = len(value)
-    return all([is_row(row, n) for row in value]) and determinant(value) == 1
+    return all([is_row(row, n) for row in value])
+
+
+def is_table(value):
+    """Return whether a value of any kind is a table."""
+    return has_shape(value) and determinant(value) == 1
 
 
 def cofactor(rows, i, j):
@@ -45,10 +50,22 @@ def check_table(value):
         raise BadTable("not a table of two or three rows with the determinant 1")
 
 
+def check_table_of(n, value):
+    """Raise BadTable if a value of any kind is not a table of n rows."""
+    check_table(value)
+    if len(value) != n:
+        raise BadTable("the table has not as many rows as it needs here")
+
+
+def check_number(value, low, high):
+    """Raise BadNumber if a value is not an integer from low to high."""
+    if not is_number(value) or value < low or value > high:
+        raise BadNumber("not an integer of the range that is asked for")
+
+
 def check_size(n):
     """Raise BadNumber if n is not a number of rows that a table can have."""
-    if not is_number(n) or n not in (2, 3):
-        raise BadNumber("the number of rows is not 2 or 3")
+    check_number(n, 2, 3)
 
 
 def check_places(n, i, j):
@@ -92,9 +109,7 @@ def inverse(table):
 
 def bordered(table):
     """Return the table with three rows that has a given one with two rows in its first corner."""
-    check_table(table)
-    if len(table) != 2:
-        raise BadTable("only a table with two rows can be bordered")
+    check_table_of(2, table)
     (a, b), (c, d) = table
     return ((a, b, 0), (c, d, 0), (0, 0, 1))
 

@@ -5,7 +5,7 @@ import inspect
 import pathlib
 import unittest
 
-from rowsteps import tables, words
+from rowsteps import device, made, modulo, parted, tables, words
 
 FOLDER = pathlib.Path(__file__).resolve().parent.parent / "rowsteps"
 LIBRARY = ("heapq", "math", "itertools", "collections")
@@ -20,6 +20,29 @@ INTERFACE = [
     (tables, "step", ["n", "i", "j", "k"]),
     (words, "word_of", ["table"]),
     (words, "table_of", ["n", "word"]),
+    (modulo, "rest", ["N", "table"]),
+    (modulo, "is_alike", ["N", "first", "second"]),
+    (modulo, "word_modulo", ["N", "square"]),
+    (modulo, "lifted", ["N", "square"]),
+    (modulo, "count", ["n", "N"]),
+    (modulo, "all_modulo", ["N"]),
+    (parted, "pieces", ["device"]),
+    (parted, "piece_of", ["device", "lot"]),
+    (parted, "merged", ["device", "lots"]),
+    (parted, "renamed", ["device", "order"]),
+    (parted, "likeness", ["first", "second"]),
+    (parted, "beside", ["first", "second"]),
+    (parted, "paired", ["first", "second"]),
+    (made, "rows_device", ["n", "N"]),
+    (made, "lines_device", ["n", "N"]),
+    (made, "planes_device", ["n", "N"]),
+    (made, "cosets_device", ["n", "N", "tables"]),
+]
+METHODS = [
+    (device.Device, "__init__", ["self", "n", "moves"]),
+    (device.Device, "move", ["self", "i", "j"]),
+    (device.Device, "act", ["self", "table", "state"]),
+    (device.Device, "exchange", ["self", "table"]),
 ]
 
 
@@ -28,18 +51,32 @@ def sources():
 
 
 class PackageTest(unittest.TestCase):
+    def assert_plain(self, function, name, arguments):
+        self.assertTrue(inspect.isfunction(function))
+        self.assertEqual(function.__name__, name)
+        parameters = inspect.signature(function).parameters
+        self.assertEqual(list(parameters), arguments)
+        for parameter in parameters.values():
+            self.assertEqual(parameter.kind, parameter.POSITIONAL_OR_KEYWORD)
+            self.assertIs(parameter.default, parameter.empty)
+
     def test_each_function_is_defined_in_its_file_with_its_arguments(self):
         for module, name, arguments in INTERFACE:
             with self.subTest(name=name):
                 function = getattr(module, name)
-                self.assertTrue(inspect.isfunction(function))
                 self.assertEqual(function.__module__, module.__name__)
-                self.assertEqual(function.__name__, name)
-                parameters = inspect.signature(function).parameters
-                self.assertEqual(list(parameters), arguments)
-                for parameter in parameters.values():
-                    self.assertEqual(parameter.kind, parameter.POSITIONAL_OR_KEYWORD)
-                    self.assertIs(parameter.default, parameter.empty)
+                self.assert_plain(function, name, arguments)
+
+    def test_each_method_stands_in_its_class(self):
+        self.assertEqual(device.Device.__module__, "rowsteps.device")
+        for owner, name, arguments in METHODS:
+            with self.subTest(name=name):
+                self.assertIn(name, vars(owner))
+                self.assert_plain(vars(owner)[name], name, arguments)
+
+    def test_the_attributes_of_a_device_are_set_on_the_object(self):
+        one = device.Device(2, {(0, 1): (0,), (1, 0): (0,)})
+        self.assertEqual({name: vars(one)[name] for name in ("n", "size", "round")}, {"n": 2, "size": 1, "round": 1})
 
     def test_arguments_may_be_passed_by_name(self):
         one = ((1, 0), (0, 1))
@@ -50,6 +87,21 @@ class PackageTest(unittest.TestCase):
         self.assertEqual(tables.bordered(table=one), ((1, 0, 0), (0, 1, 0), (0, 0, 1)))
         self.assertEqual(tables.step(n=2, i=0, j=1, k=5), ((1, 5), (0, 1)))
         self.assertEqual(words.table_of(n=2, word=words.word_of(table=one)), one)
+        self.assertEqual(modulo.rest(N=2, table=one), one)
+        self.assertIs(modulo.is_alike(N=2, first=one, second=one), True)
+        self.assertLessEqual(len(modulo.word_modulo(N=2, square=one)), 4)
+        self.assertEqual(modulo.rest(2, modulo.lifted(N=2, square=one)), one)
+        self.assertEqual((modulo.count(n=2, N=1), len(modulo.all_modulo(N=1))), (1, 1))
+
+    def test_devices_may_be_passed_by_name(self):
+        lines = made.lines_device(n=2, N=2)
+        self.assertEqual(parted.pieces(device=lines), [(0, 1, 2)])
+        self.assertEqual(parted.piece_of(device=lines, lot=(0, 1, 2)).size, 3)
+        self.assertEqual(parted.merged(device=lines, lots=[(0, 1, 2)]).size, 1)
+        self.assertEqual(parted.renamed(device=lines, order=(2, 0, 1)).size, 3)
+        self.assertEqual(parted.likeness(first=lines, second=lines), (0, 1, 2))
+        self.assertEqual(parted.beside(first=lines, second=lines).size, 6)
+        self.assertEqual(parted.paired(first=lines, second=lines).size, 9)
 
     def test_only_the_package_and_plain_helpers_are_imported(self):
         found = sources()
