@@ -36,7 +36,7 @@ def is_exchange(value, size):
 
 def joined(exchanges):
     """Return the product of a list of exchanges: the last one is done first."""
-    states = range(len(exchanges[0]))
+    states = list(range(len(exchanges[0])))
     for exchange in reversed(exchanges):
         states = [exchange[state] for state in states]
     return tuple(states)

@@ -133,6 +133,12 @@ class MadeTest(unittest.TestCase):
         self.assert_refused(2, {})
         self.assert_refused(3, {})
 
+    def test_no_dict(self):
+        for n in (2, 3):
+            pairs = all_places(n)
+            for moves in (None, [], pairs, tuple(pairs), set(pairs), [(pair, (0,)) for pair in pairs], "", 0):
+                self.assert_refused(n, moves)
+
     def test_true_and_false_are_no_places(self):
         for n in (2, 3):
             right = still_moves(n, 2)
