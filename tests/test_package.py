@@ -5,7 +5,7 @@ import inspect
 import pathlib
 import unittest
 
-from rowsteps import device, made, modulo, parted, tables, words
+from rowsteps import apart, device, devicetext, made, modulo, parted, tables, turning, words
 
 FOLDER = pathlib.Path(__file__).resolve().parent.parent / "rowsteps"
 LIBRARY = ("heapq", "math", "itertools", "collections")
@@ -37,6 +37,17 @@ INTERFACE = [
     (made, "lines_device", ["n", "N"]),
     (made, "planes_device", ["n", "N"]),
     (made, "cosets_device", ["n", "N", "tables"]),
+    (devicetext, "text_of", ["device"]),
+    (devicetext, "device_of", ["text"]),
+    (turning, "v_polynomial", ["k"]),
+    (turning, "poly_product", ["N", "p", "q"]),
+    (turning, "turning_product", ["N", "first", "second"]),
+    (turning, "unit_turning", ["N"]),
+    (turning, "mirror", ["N", "place"]),
+    (turning, "turned", ["N", "table"]),
+    (turning, "is_made", ["N", "table"]),
+    (apart, "turned_step", ["N", "u"]),
+    (apart, "apart", ["N"]),
 ]
 METHODS = [
     (device.Device, "__init__", ["self", "n", "moves"]),
@@ -102,6 +113,17 @@ class PackageTest(unittest.TestCase):
         self.assertEqual(parted.likeness(first=lines, second=lines), (0, 1, 2))
         self.assertEqual(parted.beside(first=lines, second=lines).size, 6)
         self.assertEqual(parted.paired(first=lines, second=lines).size, 9)
+        self.assertEqual(devicetext.device_of(text=devicetext.text_of(device=lines)).size, 3)
+
+    def test_turnings_may_be_passed_by_name(self):
+        one = turning.unit_turning(N=3)
+        self.assertEqual(turning.v_polynomial(k=1), (1,))
+        self.assertEqual(turning.poly_product(N=3, p=(2, 0), q=(3, 0)), (6, 0))
+        seen = turning.mirror(N=3, place=0)
+        self.assertEqual(turning.turning_product(N=3, first=one, second=seen), seen)
+        self.assertEqual(turning.turned(N=3, table=((1, 0), (0, 1))), one)
+        self.assertIs(turning.is_made(N=3, table=((1, 0), (0, 1))), True)
+        self.assertEqual(apart.turned_step(N=7, u=2), apart.apart(N=7))
 
     def test_only_the_package_and_plain_helpers_are_imported(self):
         found = sources()
