@@ -5,7 +5,9 @@ import inspect
 import pathlib
 import unittest
 
-from rowsteps import apart, device, devicetext, made, modulo, parted, tables, turning, words
+from rowsteps import (
+    apart, device, devicetext, made, modulo, papers, parted, small, tables, three, told, turning, words,
+)
 
 FOLDER = pathlib.Path(__file__).resolve().parent.parent / "rowsteps"
 LIBRARY = ("heapq", "math", "itertools", "collections")
@@ -48,6 +50,16 @@ INTERFACE = [
     (turning, "is_made", ["N", "table"]),
     (apart, "turned_step", ["N", "u"]),
     (apart, "apart", ["N"]),
+    (told, "told_apart", ["device"]),
+    (small, "representatives", ["N"]),
+    (small, "tie", ["N", "place", "letter"]),
+    (small, "paper_of_two", ["N", "table"]),
+    (three, "paper_of_three", ["N", "table"]),
+    (papers, "worth", ["N", "n", "value"]),
+    (papers, "judge", ["N", "table", "value"]),
+    (papers, "backwards", ["paper"]),
+    (papers, "conjugated", ["C", "paper"]),
+    (papers, "shortened", ["paper"]),
 ]
 METHODS = [
     (device.Device, "__init__", ["self", "n", "moves"]),
@@ -124,6 +136,20 @@ class PackageTest(unittest.TestCase):
         self.assertEqual(turning.turned(N=3, table=((1, 0), (0, 1))), one)
         self.assertIs(turning.is_made(N=3, table=((1, 0), (0, 1))), True)
         self.assertEqual(apart.turned_step(N=7, u=2), apart.apart(N=7))
+
+    def test_papers_may_be_passed_by_name(self):
+        one = ((1, 0), (0, 1))
+        self.assertEqual(papers.worth(N=2, n=2, value=()), one)
+        self.assertIs(papers.judge(N=2, table=one, value=()), True)
+        self.assertEqual(papers.backwards(paper=((one, 0, 1, 1),)), ((one, 0, 1, -1),))
+        self.assertEqual(papers.conjugated(C=one, paper=()), ())
+        self.assertEqual(papers.shortened(paper=()), ())
+        self.assertEqual(len(small.representatives(N=2)), 6)
+        self.assertEqual(small.tie(N=2, place=0, letter="S"), (1, ()))
+        self.assertIs(papers.judge(2, one, small.paper_of_two(N=2, table=one)), True)
+        three_rows = ((1, 7, 0), (0, 1, 0), (0, 0, 1))
+        self.assertIs(papers.judge(7, three_rows, three.paper_of_three(N=7, table=three_rows)), True)
+        self.assertIsNone(told.told_apart(device=made.lines_device(2, 2)))
 
     def test_only_the_package_and_plain_helpers_are_imported(self):
         found = sources()
