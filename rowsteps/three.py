@@ -25,16 +25,15 @@ def clear_place(table):
     return None
 
 
-def makers_of_one(a, b):
-    """Return integers u and v for which u * a + v * b is 1; a and b have no common divisor but 1."""
-    u, v, left = 1, 0, a
-    other_u, other_v, other = 0, 1, b
+def inverse_for(a, b):
+    """Return a number whose product with a is 1 and a multiple of b; these have no common divisor but 1."""
+    u, other_u = 1, 0
+    left, other = a, b
     while other != 0:
         k = left // other
         u, other_u = other_u, u - k * other_u
-        v, other_v = other_v, v - k * other_v
         left, other = other, left - k * other
-    return u * left, v * left
+    return u * left
 
 
 def make_free(moving, is_flipped, p, q, r):
@@ -56,9 +55,11 @@ def clear_lines_of(moving, is_flipped, p, q, r):
         a, b, c = [block.item(is_flipped, at, p) for at in (p, q, r)]
         # The item of r becomes N.
         missing = 1 - c // N
-        u, v = makers_of_one(a, b)
-        u = missing * u if b == 0 else nearest_rest(missing * u, b)
-        v = missing * v if b == 0 else (missing - u * a) // b
+        u = missing * inverse_for(a, b)
+        v = 0
+        if b != 0:
+            u = nearest_rest(u, b)
+            v = (missing - u * a) // b
         moving.add_line(is_flipped, r, p, u)
         moving.add_line(is_flipped, r, q, v)
         t = (1 - block.item(is_flipped, p, p)) // N

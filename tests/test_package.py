@@ -1,4 +1,4 @@
-"""The interface of what is built so far, and [0.3]: nothing from outside is used."""
+"""The interface, and [0.3]: nothing from outside is used."""
 
 import ast
 import inspect
@@ -6,7 +6,8 @@ import pathlib
 import unittest
 
 from rowsteps import (
-    apart, device, devicetext, made, modulo, papers, parted, small, tables, three, told, turning, words,
+    apart, device, devicetext, errors, few, find, made, modulo, papers, parted, remains, small, tables, three, told,
+    turning, whole, words,
 )
 
 FOLDER = pathlib.Path(__file__).resolve().parent.parent / "rowsteps"
@@ -60,6 +61,18 @@ INTERFACE = [
     (papers, "backwards", ["paper"]),
     (papers, "conjugated", ["C", "paper"]),
     (papers, "shortened", ["paper"]),
+    (find, "paper", ["N", "table"]),
+    (remains, "act_modulo", ["device", "table", "state"]),
+    (remains, "number_kept", ["device", "state"]),
+    (remains, "gone", ["device", "start", "goal"]),
+    (remains, "is_told", ["device"]),
+    (few, "few_device", ["kind"]),
+    (few, "kinds", ["device"]),
+    (whole, "answer", ["text"]),
+]
+ERRORS = [
+    "BadTable", "BadNumber", "BadPlace", "BadDevice", "BadState", "BadLot", "TooLarge", "BadText", "BadPaper", "NotAlike",
+    "TooLong", "BadKind",
 ]
 METHODS = [
     (device.Device, "__init__", ["self", "n", "moves"]),
@@ -150,6 +163,24 @@ class PackageTest(unittest.TestCase):
         three_rows = ((1, 7, 0), (0, 1, 0), (0, 0, 1))
         self.assertIs(papers.judge(7, three_rows, three.paper_of_three(N=7, table=three_rows)), True)
         self.assertIsNone(told.told_apart(device=made.lines_device(2, 2)))
+
+    def test_the_rest_may_be_passed_by_name(self):
+        one = ((1, 0), (0, 1))
+        three_rows = ((1, 0, 0), (0, 1, 0), (0, 0, 1))
+        lines = made.lines_device(3, 2)
+        self.assertEqual(papers.worth(2, 2, find.paper(N=2, table=one)), one)
+        self.assertEqual(remains.act_modulo(device=lines, table=three_rows, state=3), 3)
+        self.assertEqual(remains.number_kept(device=lines, state=3), 24)
+        self.assertEqual(lines.act(remains.gone(device=lines, start=1, goal=5), 1), 5)
+        self.assertIs(remains.is_told(device=lines), True)
+        self.assertEqual(few.kinds(device=few.few_device(kind="planes")), ("planes",))
+        self.assertEqual(whole.answer(text="device 2 1\n0 1 0\n1 0 0\n"), (2, 1, 1, (1,), True))
+
+    def test_the_errors(self):
+        self.assertIs(errors.RowstepsError.__bases__[0], ValueError)
+        for name in ERRORS:
+            self.assertEqual(getattr(errors, name).__bases__, (errors.RowstepsError,))
+            self.assertEqual(getattr(errors, name).__module__, "rowsteps.errors")
 
     def test_only_the_package_and_plain_helpers_are_imported(self):
         found = sources()

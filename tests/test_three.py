@@ -76,6 +76,17 @@ class PaperOfThreeTest(PapersTest):
                     with self.assertRaises(NotAlike):
                         paper_of_three(N, table)
 
+    def test_tables_that_are_not_made_smaller_first(self):
+        """What is known of the first column is enough, however the table is made smaller before."""
+        with mock.patch("rowsteps.three.peel", lambda N, table: ([], table, [])):
+            for N in ORDERS:
+                self.assert_papers(N, [table for table in TABLES[3] if is_one_modulo(N, table)])
+                self.assert_papers(N, [conjugates(N, 70 + seed, 1 + seed, 4) for seed in range(3)])
+            for second in (plain_step(3, 1, 2, 2), plain_step(3, 2, 1, -4), conjugates(2, 1, 2, 2)):
+                for k in (0, 2, -6):
+                    first = ((-1, 0, 0), (0, -1, 0), (0, 0, 1))
+                    self.assert_papers(2, [plain_times(plain_times(first, second), plain_step(3, 0, 2, k))])
+
     def test_powers_of_one_table(self):
         for N in (6, 7, 12, 30):
             table = plain_bordered(with_column(N, 1 + 4 * N, 2 * N))
