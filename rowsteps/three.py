@@ -1,9 +1,7 @@
 """Papers of tables with three rows that are 1 modulo N."""
 
-from math import gcd
-
 from rowsteps.blocks import Block
-from rowsteps.descent import nearest_rest, plan_at_once, plan_of
+from rowsteps.descent import plan_at_once, plan_of
 from rowsteps.errors import NotAlike, TooLong
 from rowsteps.modulo import is_alike
 from rowsteps.moving import Moving
@@ -25,51 +23,6 @@ def clear_place(table):
     return None
 
 
-def inverse_for(a, b):
-    """Return a number whose product with a is 1 and a multiple of b; these have no common divisor but 1."""
-    u, other_u = 1, 0
-    left, other = a, b
-    while other != 0:
-        k = left // other
-        u, other_u = other_u, u - k * other_u
-        left, other = other, left - k * other
-    return u * left
-
-
-def make_free(moving, is_flipped, p, q, r):
-    """Add the row r to the row q, or so with columns, until the items of q and p in p have no common divisor."""
-    block = Block(moving, p, q, r)
-    a, b, c = [block.item(is_flipped, at, p) for at in (p, q, r)]
-    k = 0
-    while gcd(a, b + k * moving.modulus * c) != 1:
-        k = -k if k > 0 else 1 - k
-    moving.add_line(is_flipped, q, r, k)
-
-
-def clear_lines_of(moving, is_flipped, p, q, r):
-    """Make the row p and the column p those of the identity; the column tells how, or, if flipped, the row."""
-    N = moving.modulus
-    block = Block(moving, p, q, r)
-    if block.item(is_flipped, p, p) != 1:
-        make_free(moving, is_flipped, p, q, r)
-        a, b, c = [block.item(is_flipped, at, p) for at in (p, q, r)]
-        # The item of r becomes N.
-        missing = 1 - c // N
-        u = missing * inverse_for(a, b)
-        v = 0
-        if b != 0:
-            u = nearest_rest(u, b)
-            v = (missing - u * a) // b
-        moving.add_line(is_flipped, r, p, u)
-        moving.add_line(is_flipped, r, q, v)
-        t = (1 - block.item(is_flipped, p, p)) // N
-        if is_flipped:
-            moving.turn(r, p, -t)
-        else:
-            moving.turn(p, r, t)
-    moving.clear_lines(p)
-
-
 def cleared(N, table):
     """Return the moving table, with a clear row and column, that is the least for going on with."""
     best = None
@@ -77,7 +30,7 @@ def cleared(N, table):
     for p, q, r in ORDERS:
         for is_flipped in (False, True):
             moving = Moving(N, table)
-            clear_lines_of(moving, is_flipped, p, q, r)
+            Block(moving, p, q, r).clear_by(is_flipped)
             sizes = [abs(moving.rows[i][j]) for i in (q, r) for j in (q, r)]
             # A table with two rows can be made about as small as its least item.
             size = (min(sizes).bit_length(), length_of(moving.rows))
@@ -108,10 +61,9 @@ def paper_at(N, table, p, q):
     return tuple([(placed(C, p, q), places[i], places[j], k) for C, i, j, k in paper])
 
 
-def led_to_one(moving, p, q, r):
-    """Lead a moving table, whose row r and column r are clear, to the identity, or raise TooLong."""
-    N = moving.modulus
-    (a, b), (c, d) = two_rows(moving.rows, p, q)
+def plan_for(N, table, p, q):
+    """Return the places p and q, perhaps exchanged, and a plan for the column p that makes a equal to 1."""
+    (a, b), (c, d) = two_rows(table, p, q)
     plan = plan_at_once(N, a, c // N)
     if plan is None and min(abs(b), abs(d)) < min(abs(a), abs(c)):
         p, q, a, c = q, p, d, b
@@ -120,7 +72,7 @@ def led_to_one(moving, p, q, r):
         plan = plan_of(N, a, c // N)
     if plan is None:
         raise TooLong("no paper was found within the bounds")
-    Block(moving, p, q, r).follow(plan)
+    return p, q, plan
 
 
 def paper_of_three(N, table):
@@ -139,5 +91,6 @@ def paper_of_three(N, table):
     if N <= MOST:
         middle = paper_at(N, moving.rows, p, q)
     else:
-        led_to_one(moving, p, q, r)
+        p, q, plan = plan_for(N, moving.rows, p, q)
+        Block(moving, p, q, r).follow(plan)
     return piled_factors(tuple(before) + moving.paper(middle) + tuple(behind))
