@@ -1,7 +1,7 @@
 """A table with three rows that moves lead to the identity, and the paper that these moves tell."""
 
-from rowsteps.papers import piled_factors, turned_factors
-from rowsteps.tables import identity
+from rowsteps.papers import turned_factors
+from rowsteps.tables import identity, row_times
 
 
 def plus_row(rows, i, j, k):
@@ -23,16 +23,14 @@ def flipped(rows):
 class Moving:
     """A table on its way to the identity.
 
-    The table at the beginning is always the worth of `before` times base * rows * base ** -1 times the worth of
-    `behind`, the latter in the opposite order.
+    The table at the beginning is always the worth of the factors times base * rows * base ** -1.
     """
 
     def __init__(self, N, table):
         self.modulus = N
         self.rows = table
         self.base = identity(len(table))
-        self.before = []
-        self.behind = []
+        self.factors = []
 
     def turn(self, i, j, t):
         """Take the step (i, j) t times as the first factor, and its inverse as the last one."""
@@ -44,13 +42,15 @@ class Moving:
         """Add k * N times the row j to the row i."""
         if k != 0:
             self.rows = plus_row(self.rows, i, j, k * self.modulus)
-            self.before.append((self.base, i, j, -k))
+            self.factors.append((self.base, i, j, -k))
 
     def add_column(self, i, j, k):
         """Add k * N times the column i to the column j."""
         if k != 0:
             self.rows = plus_column(self.rows, i, j, k * self.modulus)
-            self.behind.append((self.base, i, j, -k))
+            # Put in front, with the rows in its table, the factor keeps the products of the first factors small.
+            turner = tuple([row_times(row, self.rows) for row in self.base])
+            self.factors.append((turner, i, j, -k))
 
     def add_line(self, is_flipped, i, j, k):
         """Add k * N times the row j to the row i, or, if this is flipped, the column j to the column i."""
@@ -66,6 +66,6 @@ class Moving:
                 self.add_row(i, p, -(self.rows[i][p] // self.modulus))
                 self.add_column(p, i, -(self.rows[p][i] // self.modulus))
 
-    def paper(self, middle):
-        """Return the paper of the table at the beginning, if `middle` is one of the table as it is now."""
-        return piled_factors(tuple(self.before) + turned_factors(self.base, middle) + tuple(self.behind[::-1]))
+    def paper(self, rest):
+        """Return the paper of the table at the beginning, if `rest` is one of the rows as they are now."""
+        return tuple(self.factors) + turned_factors(self.base, rest)

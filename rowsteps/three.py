@@ -87,10 +87,10 @@ def paper_of_three(N, table):
     moving = Moving(N, table) if clear_place(table) is not None else cleared(N, table)
     r = clear_place(moving.rows)
     p, q = [place for place in range(3) if place != r]
-    middle = ()
+    rest = ()
     if N <= MOST:
-        middle = paper_at(N, moving.rows, p, q)
+        rest = paper_at(N, moving.rows, p, q)
     else:
         p, q, plan = plan_for(N, moving.rows, p, q)
         Block(moving, p, q, r).follow(plan)
-    return piled_factors(tuple(before) + moving.paper(middle) + tuple(behind))
+    return piled_factors(tuple(before) + moving.paper(rest) + tuple(behind))
