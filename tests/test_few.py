@@ -17,11 +17,10 @@ EIGHT = [((0, 0, 1), (1, 0, 1), (0, 1, 0)), ((1, 0, 0), (0, 0, -1), (0, 1, 1))]
 FOUR = ("one", "points", "planes", "eight")
 
 
-def models():
-    return {
-        "one": still(3, 1), "points": lines_device(3, 2), "planes": planes_device(3, 2),
-        "eight": cosets_device(3, 2, EIGHT), "more": lines_device(3, 3),
-    }
+MODELS = {
+    "one": still(3, 1), "points": lines_device(3, 2), "planes": planes_device(3, 2),
+    "eight": cosets_device(3, 2, EIGHT), "more": lines_device(3, 3),
+}
 
 
 class FewDeviceTest(unittest.TestCase):
@@ -29,7 +28,7 @@ class FewDeviceTest(unittest.TestCase):
         for kind in FOUR:
             found = few_device(kind)
             self.assertIs(type(found), Device)
-            self.assertEqual(text_of(found), text_of(models()[kind]))
+            self.assertEqual(text_of(found), text_of(MODELS[kind]))
             self.assertEqual(found.n, 3)
             self.assertEqual(len(pieces(found)), 1)
         self.assertEqual([few_device(kind).size for kind in FOUR], [1, 7, 7, 8])
@@ -53,7 +52,7 @@ class KindsTest(unittest.TestCase):
         self.assertEqual(kinds(beside(lines_device(3, 2), few_device("one"))), ("points", "one"))
 
     def test_single_pieces(self):
-        for kind, device in models().items():
+        for kind, device in MODELS.items():
             found = kinds(device)
             self.assertIs(type(found), tuple)
             self.assertEqual(found, (kind,))
@@ -63,12 +62,12 @@ class KindsTest(unittest.TestCase):
     def test_beside_one_another_in_any_order(self):
         for seed in range(40):
             mixer = Mixer(seed)
-            names = [mixer.pick(list(models())) for _ in range(1 + mixer.below(6))]
-            device = models()[names[0]]
+            names = [mixer.pick(list(MODELS)) for _ in range(1 + mixer.below(6))]
+            device = MODELS[names[0]]
             marks = [0] * device.size
             for at, name in enumerate(names[1:], 1):
-                device = beside(device, models()[name])
-                marks += [at] * models()[name].size
+                device = beside(device, MODELS[name])
+                marks += [at] * MODELS[name].size
             self.assertEqual(kinds(device), tuple(names))
             order = mixed(device.size, seed)
             new_marks = [marks[order.index(state)] for state in range(device.size)]

@@ -58,7 +58,7 @@ class PaperOfThreeTest(PapersTest):
     def test_bordered_tables(self):
         for N in ORDERS:
             mixer = Mixer(N)
-            for figures in (2, 4, 9, 20):
+            for figures in (2, 4, 9, 20) if N % 6 == 0 else (2, 5):
                 a, c = 1, 1
                 while gcd(a, c) != 1 or abs(a) == 1:
                     a = 1 + N * (mixer.below(10 ** figures) - 10 ** figures // 2)
