@@ -1,9 +1,8 @@
 """Papers: products of conjugates of N-th powers of steps, multiplied out, turned and shortened."""
 
 from rowsteps.errors import BadPaper
-from rowsteps.tables import (
-    check_number, check_size, check_table, cofactor, identity, inverse, is_number, is_table, row_times,
-)
+from rowsteps.tables import check_number, check_size, check_table, cofactor, identity, inverse
+from rowsteps.tables import is_number, is_table, row_times
 
 LEAST = 2
 MOST = 30
